@@ -1,0 +1,1 @@
+"""Roundlist: who plays whom in which round."""
