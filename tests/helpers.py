@@ -1,8 +1,11 @@
 """What several tests use: odd things to hand in, the functions under test, plain counting."""
 import copy
 
+from roundlist.changing import exchanged, moved, turned, without
 from roundlist.looking import breaks, club_row, meet_once, meet_twice, meetings, need_clubs, need_rounds
 from roundlist.making import least_breaks, once_round, twice_round
+from roundlist.notes import rounds_of, rounds_text
+from roundlist.season import Season
 
 COUNTS = range(2, 21)
 HUGE = 10 ** 5000
@@ -35,26 +38,51 @@ def not_clubs():
     return [1, 0, 21, -1, -2, 22, HUGE, -HUGE, [], [2], [[]], (2, 3), *odd_things()]
 
 
+def not_an_order(many):
+    """What is no order of so many rounds, three or more."""
+    numbers = list(range(many))
+    bad = [many, many + 1, -1, -many, HUGE, -HUGE, 10 ** 20, [], [0], (0,), *odd_things()]
+    return [
+        numbers[1:], numbers[:-1], numbers[:1], [], [*numbers, many], [*numbers, 0], numbers * 2,
+        [1, *numbers[1:]], [*numbers[:-1], 0], [0] * many, [-number for number in numbers],
+        [number + 1 for number in numbers], [number - 1 for number in numbers],
+        [0, True, *numbers[2:]], [False, *numbers[1:]], [numbers],
+        *[[*numbers[:at], thing, *numbers[at + 1:]] for at in (0, 1, many - 1) for thing in bad],
+        tuple(numbers), range(many), dict.fromkeys(numbers), set(numbers), many, HUGE, "".join(map(str, numbers)),
+        iter(numbers), *odd_things(),
+    ]
+
+
 def not_a_club(clubs):
     """What is none of so many clubs."""
     return [clubs, clubs + 1, -1, -clubs, HUGE, -HUGE, [], [0], (0, 1), *odd_things()]
 
 
-# Each function of the interface that has clubs, with good arguments for four clubs behind them.
-CLUB_FUNCTIONS = [
-    (need_clubs, ()),
+# Each function of the interface that has rounds, with good arguments for four clubs and three rounds.
+ROUNDS_FUNCTIONS = [
     (need_rounds, (FOUR,)),
     (club_row, (FOUR, 0)),
     (breaks, (FOUR, 0)),
     (meetings, (FOUR, 0, 1)),
     (meet_once, (FOUR,)),
     (meet_twice, (FOUR,)),
+    (moved, (FOUR, [2, 0, 1])),
+    (turned, (FOUR, 0, 1)),
+    (exchanged, (FOUR, 0, 1)),
+    (without, (FOUR, 0)),
+    (rounds_text, (FOUR,)),
+]
+
+# Each one that has clubs; Season is called as a function is.
+CLUB_FUNCTIONS = [
+    *ROUNDS_FUNCTIONS,
+    (need_clubs, ()),
     (once_round, ()),
     (twice_round, ()),
     (least_breaks, ()),
+    (rounds_of, ("0-1",)),
+    (Season, ()),
 ]
-
-ROUNDS_FUNCTIONS = [(function, rest) for function, rest in CLUB_FUNCTIONS if rest]
 
 
 def own(things):

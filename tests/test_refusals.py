@@ -1,10 +1,12 @@
 """What is refused: numbers of clubs, rounds and clubs, and which refusal comes first."""
 import unittest
 
-from roundlist.errors import BadClub, BadClubs, BadRounds
+from roundlist.changing import exchanged, moved, turned, without
+from roundlist.errors import BadClub, BadClubs, BadOrder, BadRounds
 from roundlist.looking import breaks, club_row, meetings, need_clubs, need_rounds
 from tests.helpers import (
-    CLUB_FUNCTIONS, COUNTS, FOUR, HUGE, ROUNDS_FUNCTIONS, Hostile, not_a_club, not_clubs, odd_things, own,
+    CLUB_FUNCTIONS, COUNTS, FOUR, HUGE, ROUNDS_FUNCTIONS, Hostile, not_a_club, not_an_order, not_clubs, odd_things,
+    own,
 )
 
 
@@ -153,6 +155,61 @@ class BadRoundsTest(RefusalTest):
                 self.refused(BadRounds, function, 4, thing, *[Hostile() for _ in rest[1:]])
 
 
+# Wrong clubs, wrong rounds of four clubs, and what is wrong behind them.
+WRONG_CLUBS = [0, 1, 21, HUGE, True, None, "4", [4], Hostile()]
+WRONG_ROUNDS = [None, 0, True, "", (), {}, [None], [[None]], [[(0, 0)]], [[(0, 4)]], [[(0, True)]], Hostile()]
+WRONG_THINGS = [None, -1, 4, HUGE, True, False, "0", (), {}, [None], [[]], Hostile()]
+
+
+class OrderOfRefusalsTest(RefusalTest):
+    def test_clubs_ahead_of_rounds_ahead_of_the_rest(self):
+        for function, rest in ROUNDS_FUNCTIONS:
+            for clubs in WRONG_CLUBS:
+                for rounds in [own(FOUR), *WRONG_ROUNDS]:
+                    for thing in WRONG_THINGS:
+                        self.refused(BadClubs, function, clubs, rounds, *[thing for _ in rest[1:]])
+            for rounds in WRONG_ROUNDS:
+                for thing in WRONG_THINGS:
+                    self.refused(BadRounds, function, 4, rounds, *[thing for _ in rest[1:]])
+
+    def test_what_is_good_behind_it_does_not_help(self):
+        for function, rest in ROUNDS_FUNCTIONS:
+            for clubs in WRONG_CLUBS:
+                self.refused(BadClubs, function, clubs, *own(rest))
+            for rounds in WRONG_ROUNDS:
+                self.refused(BadRounds, function, 4, rounds, *own(rest[1:]))
+
+    def test_the_rest_is_looked_at_last(self):
+        for thing in WRONG_THINGS:
+            self.refused(BadOrder, moved, 4, own(FOUR), thing)
+            self.refused(BadClub, without, 4, own(FOUR), thing)
+            for function in (meetings, turned, exchanged):
+                for other in WRONG_THINGS:
+                    self.refused(BadClub, function, 4, own(FOUR), thing, other)
+
+
+class BadOrderTest(RefusalTest):
+    def test_what_is_no_order(self):
+        for thing in not_an_order(3):
+            self.refused(BadOrder, moved, 4, own(FOUR), thing)
+        for thing in not_an_order(40):
+            self.refused(BadOrder, moved, 2, [[] for _ in range(40)], thing)
+
+    def test_an_order_that_holds_itself(self):
+        loop = []
+        loop.append(loop)
+        self.refused(BadOrder, moved, 2, [[(0, 1)]], loop)
+
+    def test_every_list_of_numbers_of_two_rounds_but_two(self):
+        for first in range(-3, 4):
+            for second in range(-3, 4):
+                order = [first, second]
+                if sorted(order) == [0, 1]:
+                    self.assertEqual(len(moved(2, [[(0, 1)], []], order)), 2)
+                else:
+                    self.refused(BadOrder, moved, 2, [[(0, 1)], []], order)
+
+
 class BadClubTest(RefusalTest):
     def test_what_is_no_club_has_no_row_and_no_breaks(self):
         for clubs in (2, 4, 20):
@@ -160,17 +217,25 @@ class BadClubTest(RefusalTest):
                 self.refused(BadClub, club_row, clubs, [[(0, 1)]], thing)
                 self.refused(BadClub, breaks, clubs, [], thing)
 
-    def test_what_is_no_club_has_no_meetings(self):
-        for thing in not_a_club(4):
-            self.refused(BadClub, meetings, 4, own(FOUR), thing, 1)
-            self.refused(BadClub, meetings, 4, own(FOUR), 1, thing)
-            self.refused(BadClub, meetings, 4, [], thing, thing)
+    def test_what_is_no_club_is_not_left_out(self):
+        for clubs in (2, 4, 20):
+            for thing in not_a_club(clubs):
+                self.refused(BadClub, without, clubs, [[(0, 1)]], thing)
+                self.refused(BadClub, without, clubs, [], thing)
 
-    def test_no_club_meets_itself(self):
-        for clubs in (2, 3, 20):
-            for club in range(clubs):
-                with self.subTest(clubs=clubs, club=club):
-                    self.refused(BadClub, meetings, clubs, [], club, club)
+    def test_what_is_no_club_has_no_meetings_and_is_not_turned_or_exchanged(self):
+        for function in (meetings, turned, exchanged):
+            for thing in not_a_club(4):
+                self.refused(BadClub, function, 4, own(FOUR), thing, 1)
+                self.refused(BadClub, function, 4, own(FOUR), 1, thing)
+                self.refused(BadClub, function, 4, [], thing, thing)
+
+    def test_no_club_is_both(self):
+        for function in (meetings, turned, exchanged):
+            for clubs in (2, 3, 20):
+                for club in range(clubs):
+                    self.refused(BadClub, function, clubs, [], club, club)
+                    self.refused(BadClub, function, clubs, [[(0, 1)], [(1, 0)]], club, club)
 
     def test_each_club_that_is_there_is_let_by(self):
         for clubs in COUNTS:
@@ -179,6 +244,9 @@ class BadClubTest(RefusalTest):
                     self.assertEqual(club_row(clubs, [], club), [])
                     self.assertEqual(breaks(clubs, [], club), [])
                     self.assertEqual(meetings(clubs, [], club, (club + 1) % clubs), [])
+                    self.assertEqual(turned(clubs, [], club, (club + 1) % clubs), [])
+                    self.assertEqual(exchanged(clubs, [], club, (club + 1) % clubs), [])
+                    self.assertEqual(without(clubs, [], club), [])
 
 
 if __name__ == "__main__":
